@@ -1,0 +1,1 @@
+"""Tables of groups, questions and indexes as texts."""
