@@ -2,16 +2,25 @@
 
 from indexneeds.faults import Fault
 from indexneeds.figures import index_numbers, question_numbers, table_numbers
-from indexneeds.filters import filters_of, rows_passing
+from indexneeds.filters import filter_of, filters_of, rows_passing, rows_split, say, say_in_table
 from indexneeds.form import one_form
 from indexneeds.grammar import sheet_of
 from indexneeds.line import Line
+from indexneeds.parts import answered_parts
+from indexneeds.serving import covers, entries_of, is_free_by, room_of, serves
 
 LOAD = 0
 SHOWN = 1
 TABLE = 2
 ASK = 3
 INDEX = 4
+COUNT = 5
+SPLIT = 6
+ANSWER = 7
+ALONE = 8
+IMPLIES = 9
+SERVES = 10
+ROOM = 11
 
 LONGEST_TEXT = 1200
 
@@ -45,11 +54,13 @@ def answer_from(sheet, call):
         return shown(sheet)
     if call.kind == TABLE:
         return table_numbers(sheet)
-    if call.kind == ASK:
-        return ask(sheet, call.numbers[0])
-    if call.kind == INDEX:
-        return index_told(sheet, call.numbers[0])
-    return rows_counted(sheet, call.rows[0])
+    if call.kind in (ASK, ANSWER, ALONE, SERVES):
+        return about_question(sheet, call.kind, call.numbers[0])
+    if call.kind in (INDEX, ROOM):
+        return about_index(sheet, call.kind, call.numbers[0])
+    if call.kind == SPLIT:
+        return column_split(sheet, call.numbers[0])
+    return about_filters(sheet, call)
 
 
 def load(desk, text):
@@ -68,20 +79,68 @@ def shown(sheet):
     return [len(form)] + form
 
 
-def ask(sheet, number):
+def about_question(sheet, kind, number):
     if not 0 <= number < len(sheet.questions):
         return [-2]
-    return question_numbers(sheet.questions[number])
+    question = sheet.questions[number]
+    if kind == ASK:
+        return question_numbers(question)
+    if kind == ANSWER:
+        return rows_answered(sheet.groups, question)
+    if kind == ALONE:
+        return filters_alone(sheet.groups, question.filters)
+    return indexes_serving(sheet.indexes, question)
 
 
-def index_told(sheet, number):
+def rows_answered(groups, question):
+    parts = answered_parts(groups, question)
+    numbers = [sum([part.rows for part in parts]), len(parts)]
+    for part in parts:
+        numbers.append(part.rows)
+        numbers.extend(part.cells)
+    return numbers
+
+
+def filters_alone(groups, filters):
+    return [rows_passing(groups, filters), len(filters)] + [rows_passing(groups, [sieve]) for sieve in filters]
+
+
+def indexes_serving(indexes, question):
+    serving = [number for number, index in enumerate(indexes) if serves(index, question)]
+    numbers = [len(serving)]
+    for number in serving:
+        numbers.append(number)
+        numbers.append(one_if(covers(indexes[number], question)))
+        numbers.append(one_if(is_free_by(indexes[number], question)))
+    return numbers
+
+
+def about_index(sheet, kind, number):
     if not 0 <= number < len(sheet.indexes):
         return [-3]
-    return index_numbers(sheet.indexes[number])
+    index = sheet.indexes[number]
+    if kind == INDEX:
+        return index_numbers(index)
+    return [entries_of(index, sheet.groups), room_of(index, sheet.groups)]
 
 
-def rows_counted(sheet, numbers):
-    filters = filters_of(numbers, len(sheet.columns))
+def column_split(sheet, column):
+    if not 0 <= column < len(sheet.columns):
+        return [-5]
+    return rows_split(sheet.groups, column)
+
+
+def about_filters(sheet, call):
+    filters = filters_of(call.rows[0], len(sheet.columns))
     if filters is None:
         return [-4]
-    return [rows_passing(sheet.groups, filters), rows_passing(sheet.groups, [])]
+    if call.kind == COUNT:
+        return [rows_passing(sheet.groups, filters), rows_passing(sheet.groups, [])]
+    sieve = filter_of(call.rows[1], len(sheet.columns))
+    if sieve is None:
+        return [-4]
+    return [one_if(say(filters, sieve)), one_if(say_in_table(sheet.groups, filters, sieve))]
+
+
+def one_if(holds):
+    return 1 if holds else 0

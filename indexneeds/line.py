@@ -1,7 +1,10 @@
 """From a list of numbers to the calls that it tells, one behind another."""
 
 # How many whole numbers, and how many rows, each call has behind its number.
-SHAPES = {0: (0, 1), 1: (0, 0), 2: (0, 0), 3: (1, 0), 4: (1, 0), 5: (0, 1)}
+SHAPES = {
+    0: (0, 1), 1: (0, 0), 2: (0, 0), 3: (1, 0), 4: (1, 0), 5: (0, 1),
+    6: (1, 0), 7: (1, 0), 8: (1, 0), 9: (0, 2), 10: (1, 0), 11: (1, 0),
+}
 
 
 class Call:

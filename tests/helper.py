@@ -25,6 +25,30 @@ def count(filters):
     return [5, len(filters)] + filters
 
 
+def split(column):
+    return [6, column]
+
+
+def answer(question):
+    return [7, question]
+
+
+def alone(question):
+    return [8, question]
+
+
+def implies(filters, one_more):
+    return [9, len(filters)] + filters + [len(one_more)] + one_more
+
+
+def serves(question):
+    return [10, question]
+
+
+def room(number):
+    return [11, number]
+
+
 def run(*calls):
     given = answers([number for call in calls for number in call])
     apart = []

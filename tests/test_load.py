@@ -2,10 +2,15 @@
 
 import unittest
 
-from helper import SHOWN, TABLE, ask, count, index, load, load_answer, run
+from helper import (
+    SHOWN, TABLE, alone, answer, ask, count, implies, index, load, load_answer, room, run, serves, split,
+)
 
-NO_TEXT = [[-8], [-8], [-8], [-8], [-8]]
-OTHERS = [SHOWN, TABLE, ask(0), index(0), count([0])]
+OTHERS = [
+    SHOWN, TABLE, ask(0), index(0), count([0]),
+    split(0), answer(0), alone(0), implies([0], [0, 1, 3]), serves(0), room(0),
+]
+NO_TEXT = [[-8]] * len(OTHERS)
 ONE = "table (a); row 1 times 2; ask q; index i on a;"
 TWO = "table (c, d); row 3, 4 times 5; row 4, 4 times 1;"
 
@@ -47,7 +52,21 @@ class LoadTest(unittest.TestCase):
         given = run(load(ONE), load(TWO), *OTHERS)
         self.assertEqual(given[:2], [[0, 1, 1, 1, 1], [0, 2, 2, 0, 0]])
         self.assertEqual(given[2:], run(load(TWO), *OTHERS)[1:])
-        self.assertEqual(given[3:], [[2, 2, 3, 4, 5, 4, 4, 1], [-2], [-3], [6, 6]])
+        self.assertEqual(
+            given[3:],
+            [
+                [2, 2, 3, 4, 5, 4, 4, 1], [-2], [-3], [6, 6],
+                [0, 0, 0, 5, 1, 0, 0, 0, 0, 0], [-2], [-2], [0, 0], [-2], [-3],
+            ],
+        )
+
+    def test_a_second_load_brings_its_questions_and_indexes(self):
+        given = run(load(TWO), load(ONE), *OTHERS)
+        self.assertEqual(given[2:], run(load(ONE), *OTHERS)[1:])
+        self.assertEqual(
+            given[7:],
+            [[0, 2, 0, 0, 0, 0, 0, 0, 0, 0], [2, 1, 2], [2, 0], [0, 1], [1, 0, 1, 1], [2, 4]],
+        )
 
     def test_a_fault_leaves_the_earlier_text(self):
         wanted = run(load(ONE), *OTHERS)[1:]
